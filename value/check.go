@@ -4,6 +4,7 @@ import (
 	"unicode/utf8"
 
 	"chancel/api"
+	"chancel/names"
 	"chancel/text"
 )
 
@@ -48,7 +49,7 @@ func checkText(s string) api.Errno {
 }
 
 func checkUid(u api.Uid) api.Errno {
-	if !isName(u.Type) {
+	if !names.Is(u.Type) {
 		return api.ErrName
 	}
 	return checkText(u.Id)
@@ -71,22 +72,4 @@ func checkElements(l []api.Value) api.Errno {
 		}
 	}
 	return api.OK
-}
-
-// isName tells whether s is a name (W5). Its signs are all of one byte, so its bytes may be counted.
-func isName(s string) bool {
-	for at, r := range s {
-		if !isLetter(r) && (at == 0 || !isDigit(r)) {
-			return false
-		}
-	}
-	return 0 < len(s) && len(s) <= api.MaxIdent
-}
-
-func isLetter(r rune) bool {
-	return 'A' <= r && r <= 'Z' || 'a' <= r && r <= 'z' || r == '_'
-}
-
-func isDigit(r rune) bool {
-	return '0' <= r && r <= '9'
 }
